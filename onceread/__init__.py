@@ -1,0 +1,1 @@
+"""Questions about linked things, answered with papers that are read once."""
