@@ -222,7 +222,7 @@ class CanTake(unittest.TestCase):
         for _ in range(250):
             judge = some_judge(chance, 5)
             given = tuple(chance.randrange(2) for _ in range(judge.given))
-            # With 5 lines and two registers of two things, 20 letters suffice; most papers are far shorter.
+            # The least papers that judges of this size take have a few letters only.
             taken = any(verdict(judge, world, letters, given) == "taken"
                         for many in range(7) for letters in itertools.product((0, 1), repeat=many))
             found = can_take(judge, world, given)
