@@ -1,9 +1,22 @@
-"""What is looked at first when a question is asked in a world: its relations and its things."""
+"""What is looked at first when a question is asked: its side, its relations and its things."""
 
-from onceread.errors import BadValues, NoSuchRelation, Unvalued
+from onceread.errors import BadSide, BadValues, NoSuchRelation, NotAWalk, Unvalued
 from onceread.kinds import are_different_names, is_name, is_sequence, is_thing
 
+SIDES = ("yes", "no")
 MOST_ANSWERED = 4
+
+
+def check_side(side):
+    """Raise BadSide if it is no side of a question."""
+    if side not in SIDES:
+        raise BadSide(side)
+
+
+def check_walk(question):
+    """Raise NotAWalk if the tree of the question is no walk."""
+    if question.tree[0] != "walk":
+        raise NotAWalk()
 
 
 def check_relations(uses, world):

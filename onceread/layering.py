@@ -1,15 +1,13 @@
 """The layers of a walk."""
 
-from onceread.asked import checked_things
-from onceread.errors import NotAWalk
+from onceread.asked import check_walk, checked_things
 from onceread.nodes import things_for
 from onceread.truths import Truth
 
 
 def layers(question, world, values=()):
     """For each number of steps, the tuples that are reached by just so many and no fewer."""
-    if question.tree[0] != "walk":
-        raise NotAWalk()
+    check_walk(question)
     things = checked_things(question, world, values)
     truth = Truth(question, world)
     layer = [things_for(question.tree[4], things)]

@@ -34,3 +34,28 @@ def things_for(names, things):
         if name not in things:
             return None
     return tuple([things[name] for name in names])
+
+
+def bound_to(names, row, things):
+    """The things for variables, where these names stand for the things of the row instead."""
+    told = dict(things)
+    for name, thing in zip(names, row):
+        told[name] = thing
+    return told
+
+
+class Walking:
+    """A walk with things for the variables around it."""
+
+    def __init__(self, node, things):
+        self.node = node
+        self.step = node.parts[0]
+        self.width = len(node.tree[1])
+        self.start = things_for(node.tree[4], things)
+        self.goal = things_for(node.tree[5], things)
+        self.outside = things_for(node.around, things)
+
+    def between(self, here, after):
+        """The things for the variables of the step, from the tuple here to the tuple after."""
+        tree = self.node.tree
+        return dict(zip(self.node.around + tree[1] + tree[2], self.outside + here + after))

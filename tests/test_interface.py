@@ -17,6 +17,18 @@ FUNCTIONS = {
                 "agrees": "world looked"},
     "reaching": {"moves": "judge world standing", "reached": "judge world given=() * limit=20000",
                  "can_take": "judge world given=() * limit=20000"},
+    "seeking": {"least_letters": "judge world given=() * limit=20000", "taken_papers": "judge world given=() * upto"},
+    "grammar": {"is_right": "question side world letters values=()"},
+    "rounds": {"rounds_told": "question world letters values=()"},
+    "bills": {"bill": "question side"},
+    "asking": {"judge_of": "question side"},
+    "lengths": {"paper_length": "question world values=()"},
+    "papers": {"paper": "question world * values=() limit=100000"},
+    "ways": {"cheapest_way": "question world * values=() most=None"},
+    "listing": {"right_papers": "question side world * values=() upto"},
+    "resting": {"rests_on": "question side world letters values=()"},
+    "counterpapers": {"is_counter_right": "judge world letters given=()",
+                      "counter_paper": "judge world given=() * limit=20000 longest=100000"},
 }
 CLASSES = {
     "worlds": {"World": ("size relations=()", "arity:name rows:name put:name,row drop:name,row moved:order", "",
@@ -50,6 +62,11 @@ class Interface(unittest.TestCase):
                     found = getattr(module, function)
                     self.assertEqual(found.__module__, "onceread." + name)
                     self.assertEqual(told(found), parameters)
+
+    def test_generators(self):
+        for name, function in (("seeking", "taken_papers"), ("listing", "right_papers")):
+            module = importlib.import_module("onceread." + name)
+            self.assertTrue(inspect.isgeneratorfunction(getattr(module, function)))
 
     def test_classes(self):
         for name, classes in CLASSES.items():

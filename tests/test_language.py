@@ -7,6 +7,7 @@ import re
 import unittest
 
 PACKAGE = pathlib.Path(__file__).resolve().parent.parent / "onceread"
+HEAPS = {"heappush", "heappop"}
 BUILTINS = set("""len range enumerate zip min max sum abs sorted reversed int str bool bytes list tuple dict set
     frozenset isinstance ord repr any all divmod pow Exception ValueError TypeError KeyError IndexError LookupError
     ZeroDivisionError ArithmeticError OverflowError RuntimeError NotImplementedError AttributeError StopIteration
@@ -140,6 +141,9 @@ class Language(unittest.TestCase):
             self.assertIn(node, TREES[path].body)
             self.assertEqual(node.level, 0)
             self.assertTrue(all(part.asname is None and part.name != "*" for part in node.names))
+            if node.module == "heapq":
+                self.assertLessEqual({part.name for part in node.names}, HEAPS)
+                continue
             self.assertTrue(node.module.startswith("onceread."), node.module)
             other = PACKAGE / (node.module.split(".")[1] + ".py")
             defined = [part.name if isinstance(part, (ast.FunctionDef, ast.ClassDef)) else part.targets[0].id
@@ -161,9 +165,9 @@ class Language(unittest.TestCase):
         for path, node in self.each(ast.stmt):
             self.assertIsInstance(node, STATEMENTS)
             if isinstance(node, ast.Expr):
-                self.assertTrue(is_doc(node) or isinstance(node.value, ast.Call))
-        for path, node in self.each((ast.Lambda, ast.GeneratorExp, ast.Starred, ast.Await, ast.NamedExpr, ast.Yield,
-                                     ast.YieldFrom, ast.AnnAssign)):
+                self.assertTrue(is_doc(node) or isinstance(node.value, (ast.Call, ast.Yield, ast.YieldFrom)))
+        for path, node in self.each((ast.Lambda, ast.GeneratorExp, ast.Starred, ast.Await, ast.NamedExpr,
+                                     ast.AnnAssign)):
             self.fail("not used in this package so far: look at its rule first")
 
     def test_functions(self):
@@ -176,6 +180,46 @@ class Language(unittest.TestCase):
                 if isinstance(part, ast.arg):
                     self.assertIsNone(part.annotation)
             self.assertFalse([part for part in ast.walk(node) if isinstance(part, ast.FunctionDef) and part is not node])
+
+    def test_generators(self):
+        generators, others = [], []
+        for path, node in self.each(ast.FunctionDef):
+            if any(isinstance(part, (ast.Yield, ast.YieldFrom)) for part in ast.walk(node)):
+                generators.append(node.name)
+                self.assertFalse(node.decorator_list or node.name.startswith("__"))
+                self.assertFalse([part for part in ast.walk(node) if isinstance(part, (ast.Try, ast.With))])
+                self.assertFalse([part for part in ast.walk(node) if isinstance(part, ast.Return) and part.value])
+            else:
+                others.append(node.name)
+        self.assertEqual(len(generators), len(set(generators)))
+        self.assertFalse(set(generators) & (set(others) | METHODS))
+        for path, tree in TREES.items():
+            allowed, called = set(), set()
+            for node in ast.walk(tree):
+                if isinstance(node, (ast.For, ast.comprehension)):
+                    allowed.add(node.iter)
+                if isinstance(node, ast.YieldFrom):
+                    allowed.add(node.value)
+                if isinstance(node, ast.Expr) and isinstance(node.value, (ast.Yield, ast.YieldFrom)):
+                    allowed.add(node.value)
+                if isinstance(node, ast.Call) and isinstance(node.func, ast.Name):
+                    called.add(node.func)
+                    if node.func.id in ("list", "tuple", "dict", "sorted", "sum", "enumerate", "zip"):
+                        allowed |= set(node.args)
+            for node in ast.walk(tree):
+                if isinstance(node, ast.Call) and isinstance(node.func, ast.Name) and node.func.id in generators:
+                    self.assertIn(node, allowed, path.name)
+                if isinstance(node, (ast.Yield, ast.YieldFrom)):
+                    self.assertIn(node, allowed, path.name)
+                if isinstance(node, ast.Name) and node.id in generators:
+                    self.assertIn(node, called, path.name)
+
+    def test_heaps(self):
+        for path, tree in TREES.items():
+            called = {node.func for node in ast.walk(tree) if isinstance(node, ast.Call)}
+            for node in ast.walk(tree):
+                if isinstance(node, ast.Name) and node.id in HEAPS:
+                    self.assertIn(node, called)
 
     def test_classes(self):
         for path, node in self.each(ast.ClassDef):
