@@ -5,7 +5,6 @@ from onceread.nodes import Walking
 from onceread.outlines import outlines
 from onceread.roundletters import round_letters
 from onceread.rows import all_rows
-from onceread.trees import ATOMS
 
 
 def least_way_to_goal(graph, walking, lengths, most):
@@ -28,7 +27,7 @@ class Spelling:
 
     def least(self, node, yes, things):
         """A list of the letters of the least right paper for a side of a tree."""
-        if node.word in ATOMS:
+        if self.counting.least(node, yes, things) == 0:
             return []
         if node.word != "walk":
             spelled = []
