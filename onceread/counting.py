@@ -16,7 +16,7 @@ class StepGraph:
     def __init__(self, counting, walking):
         self._counting = counting
         self._walking = walking
-        self._outside = dict(zip(walking.node.around, walking.outside))
+        self._around = dict(zip(walking.node.around, walking.outside))
         self._edges = {}
 
     def edges_from(self, here):
@@ -26,7 +26,7 @@ class StepGraph:
         return self._edges[here]
 
     def _steps_from(self, here):
-        return self._counting.truth.steps(self._walking.node, self._outside, here)
+        return self._counting.truth.steps(self._walking.node, self._around, here)
 
     def _edge(self, here, there):
         walking = self._walking

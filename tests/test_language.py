@@ -279,6 +279,16 @@ class Language(unittest.TestCase):
                             if node.id not in own | top | {"property", "classmethod", "staticmethod"}:
                                 self.assertIn(node.id, BUILTINS)
 
+    def test_names_that_begin_with_an_underscore(self):
+        barred = re.compile(r"_(wall|pe_|dcw_|enum_|cm_|twin_re_|lay_|law_|stub_|sre|WallAttr)|"
+                            r"_(cold|tuplegetter|outside|record|written_out|member_names)[0-9_]*$")
+        for path, tree in TREES.items():
+            for node in ast.walk(tree):
+                for field in ("id", "attr", "name", "arg"):
+                    word = getattr(node, field, None)
+                    if isinstance(word, str):
+                        self.assertIsNone(barred.match(word), path.name + " " + word)
+
     def test_words(self):
         for path, source in sources().items():
             for line in source.splitlines():
