@@ -99,9 +99,7 @@ class Code:
             self.stand(carry)
 
     def count_one(self, row):
-        """Add 1 to the number that these registers hold, digit by digit."""
+        """Add 1 to the number that these registers hold, digit by digit. There must be room for it."""
         further = self.label()
         self.go_to_next_row(row, further)
-        # No paper comes so far that could still be taken.
-        self.write("go", self.refuse)
         self.stand(further)

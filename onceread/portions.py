@@ -9,7 +9,6 @@ from onceread.graphs import Forward, Toward, edges_into
 from onceread.nodes import Walking
 from onceread.outlines import outlines
 from onceread.rows import all_rows
-from onceread.trees import ATOMS
 
 
 class Letters:
@@ -43,7 +42,7 @@ class Side:
     def choices(self):
         """The outlines of the paper."""
         node = self._node
-        if node.word in ATOMS:
+        if self._stock.counting.steady(node, self._yes) == 0:
             return [((), [])]
         if node.word != "walk":
             found = outlines(self._stock.counting.truth, node, self._yes, self._things)

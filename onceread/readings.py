@@ -21,6 +21,8 @@ class Reading:
         # The rounds of the walk whose no was read to its end last.
         self.rounds = None
         self._truth = Truth(question, world)
+        # Trees that were read to their end without any letter, with things for their variables.
+        self._letterless = {}
 
     def is_right(self, yes, things):
         """Read the side of the question. Does reading end just behind the last letter?"""
@@ -87,9 +89,16 @@ class Reading:
         if (node.word == "some") == yes:
             thing = self.sheet.next_letter(self.size)
             return thing is not None and self.read(node.parts[0], yes, bound_to(names, (thing,), things))
+        # What was read without letters is read so again, and the same facts are looked at.
+        key = (node.number, yes, things_for(node.needs, things))
+        if key in self._letterless:
+            return True
+        before = self.sheet.number_read()
         for thing in range(self.size):
             if not self.read(node.parts[0], yes, bound_to(names, (thing,), things)):
                 return False
+        if self.sheet.number_read() == before:
+            self._letterless[key] = True
         return True
 
     def _compared(self, node, yes, things):

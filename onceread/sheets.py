@@ -24,6 +24,10 @@ class Sheet:
         self._at += 1
         return self._paper[self._at - 1]
 
+    def number_read(self):
+        """How many letters are read so far."""
+        return self._at
+
     def is_read_whole(self):
         """Are all letters read?"""
         return self._at == len(self._paper)

@@ -151,8 +151,8 @@ class Taken(unittest.TestCase):
         values = (("x", 1), ("y", 0))
         taken = 0
         for one in samples.all_letters(3, 2):
-            for two in samples.all_letters(3, 2):
-                for three in samples.all_letters(3, 1):
+            for two in samples.all_letters(3, 3):
+                for three in samples.all_letters(3, 2):
                     letters = (0, 0, 1, 0, 1, 1) + three + (0, 0, 1, 1) + one + (1, 1) + two
                     expected = is_right(STEPS, "no", world, letters, values)
                     self.assertEqual(verdict(judge, world, letters, (1, 0)), "taken" if expected else "refused")
@@ -182,6 +182,15 @@ class LooksAt(unittest.TestCase):
                 side, letters = paper(question, world, values=values, limit=10 ** 6)
                 self.assertEqual(looks(judge_of(question, side), world, letters, things_of(values)),
                                  rests_on(question, side, world, letters, values))
+
+    def test_least_papers(self):
+        for question in samples.QUESTIONS:
+            judges = {side: judge_of(question, side) for side in SIDES}
+            for values in samples.all_values(question, CHAIN):
+                side, letters = paper(question, CHAIN, values=values)
+                self.assertEqual(verdict(judges[side], CHAIN, letters, things_of(values)), "taken")
+                self.assertEqual(looks(judges[side], CHAIN, letters, things_of(values)),
+                                 rests_on(question, side, CHAIN, letters, values))
 
     def test_all_short_right_papers(self):
         for question in samples.QUESTIONS:

@@ -265,6 +265,11 @@ class CounterPaper(unittest.TestCase):
             else:
                 check_error(self, TooLong(length), counter_paper, judge, World(size))
                 check_error(self, TooLong(length), counter_paper, judge, World(size), longest=length - 1)
+        # Eleven claims and two more moves: just one letter too many.
+        moved = [("claim" if line < 11 else "go", line + 1) for line in range(13)]
+        judge = Judge(0, moved + [REFUSE] * 62)
+        check_error(self, TooLong(100001), counter_paper, judge, PAIR)
+        self.assertEqual(len(counter_paper(judge, PAIR, longest=100001)), 100001)
         self.assertGreater(18 ** 4, 100000)
         self.assertEqual(len(counter_paper(Judge(2, [REFUSE]), World(18), longest=18 ** 4)), 18 ** 4)
 
@@ -277,6 +282,11 @@ class CounterPaper(unittest.TestCase):
                 # TooMany comes before TooLong, and also where a take is reached.
                 check_error(self, TooMany(limit), counter_paper, judge, CHAIN, given, limit=limit)
                 check_error(self, TooMany(limit), counter_paper, judge, CHAIN, given, limit=limit, longest=0)
+        # Just so many, and one more; the first one is not too many, but its paper is too long.
+        many = [("go", line + 1) for line in range(19998)]
+        self.assertRaises(TooLong, counter_paper, Judge(1, many[1:-1] + [("read", 0), REFUSE, REFUSE]), PAIR)
+        self.assertIsNone(counter_paper(Judge(1, many[:-1] + [("read", 0), TAKE]), PAIR))
+        check_error(self, TooMany(20000), counter_paper, Judge(1, many + [("read", 0), TAKE]), PAIR)
         judge = Judge(3, [("read", 0), ("read", 1), ("read", 2), REFUSE])
         check_error(self, TooMany(20000), counter_paper, judge, World(30))
         check_error(self, TooMany(20000), counter_paper, judge, World(30), longest=0)

@@ -3,10 +3,12 @@
 import random
 import unittest
 
+from onceread.asking import judge_of
 from onceread.grammar import is_right
 from onceread.meaning import holds
 from onceread.papers import paper
 from onceread.questions import Question
+from onceread.running import verdict
 from onceread.sentences import read_question
 from onceread.worlds import World
 
@@ -132,6 +134,9 @@ class NoOfAWalk(unittest.TestCase):
             letters = tuple(int(letter) for letter in letters.replace(" ", "").replace(",", ""))
             self.assertIs(is_right(question, "no", world, letters, values), expected)
             self.assertIs(naive.is_right(question, "no", world, letters, values), expected)
+            # The judge of the question has to see all this, too.
+            given = [dict(values)[name] for name in question.free]
+            self.assertEqual(verdict(judge_of(question, "no"), world, letters, given), "taken" if expected else "refused")
 
     def test_example(self):
         self.assertTrue(is_right(STEPS, "no", CHAIN, NO_PAPER, DOWNWARDS))
@@ -192,7 +197,10 @@ class NoOfAWalk(unittest.TestCase):
     def test_claimed_goal(self):
         self.check("1 0, 1, 12", False)
         self.check("1, 1, 12", False)
-        # It fails although there is a way to it.
+        # It fails although there is a way to it, and all else is right.
+        loop = World(3, [("edge", 2, [(0, 1)])])
+        self.check("1, 11, 0 100, 1, 11, 0 1 11 0", False, world=loop, values=(("x", 0), ("y", 1)))
+        self.check("1, 11, 0 100, 1, 11, 0 1 11 0", True, world=loop, values=(("x", 0), ("y", 2)))
         self.check("12, 1, 0 0 0 1 2", False, values=UPWARDS)
         for letters in samples.all_letters(2, 9):
             self.assertFalse(is_right(STEPS, "no", PAIR, letters, (("x", 0), ("y", 1))))
@@ -214,6 +222,9 @@ class NoOfAWalk(unittest.TestCase):
         self.check("0 010, 1, 1 12, 0 0112, 1, 12", False, world=ring)
         self.check("0 010, 1, 12, 0 0 1 1 12, 1, 12", False, world=ring)
         self.check("0 010, 1, 12, 0 0112, 1, 1 112", False, world=ring)
+        # A way that is too long for the shown thing, and ends at the target.
+        self.check("0 010, 1, 0 12, 0 0112, 1, 12", False, world=ring)
+        self.check("0 010, 1, 0 1 2 12, 0 0112, 1, 12", False, world=ring)
         # The start is there before the first step.
         self.check("0 010, 11, 12, 0 0112, 1, 12", False, world=ring)
 
@@ -314,6 +325,17 @@ class IsRight(unittest.TestCase):
         world = World(400, [("edge", 2, [(thing, thing + 1) for thing in range(399)])])
         self.assertTrue(is_right(STEPS, "yes", world, tuple(range(1, 400)), (("x", 0), ("y", 399))))
         self.assertFalse(is_right(STEPS, "yes", world, tuple(range(1, 399)), (("x", 0), ("y", 399))))
+
+    def test_many_things_without_letters(self):
+        # What needs no letters is not gone through again and again.
+        tree = ("rel", "edge", ("x", "v5"))
+        for at in range(39):
+            tree = ("every", "v%d" % at, tree)
+        world = World(3, [("edge", 2, [(1, 0), (1, 1), (1, 2)])])
+        self.assertTrue(is_right(Question(tree), "yes", world, (), (("x", 1),)))
+        self.assertFalse(is_right(Question(tree), "yes", world, (0,), (("x", 1),)))
+        self.assertFalse(is_right(Question(tree), "yes", world, (), (("x", 0),)))
+        self.assertTrue(is_right(Question(("and", tree[2], tree[2])), "yes", world, (), (("x", 1), ("v38", 0))))
 
     def test_wide_walk_of_a_large_world(self):
         # Only so far is gone as there are letters.

@@ -51,6 +51,20 @@ class PaperLength(unittest.TestCase):
         self.check(text, CHAIN, (0, 2), 4)
         self.check(text, World(3, [("edge", 2, [(0, 1)])]), (0, 2), 4)
 
+    def test_fewer_letters_in_later_rounds(self):
+        # A way with more steps has fewer letters, and is taken for all rounds in which it may have so many.
+        text = "walk [a -> b: edge(a, b) or (first(a) and next(b, y) and every c: (c = c or c = c))] x -> y"
+        world = World(4, [("edge", 2, [(0, 1), (1, 2)])])
+        expected = naive.least(read_question(text).tree, False, world, {"x": 0, "y": 3})
+        self.check(text, world, (0, 3), len(expected))
+        text = "walk [a -> b: edge(a, b) or (next(a, b) and every c: every d: (c = d or not c = d))] x -> y"
+        world = World(5, [("edge", 2, [(2, 4), (4, 3), (2, 2)])])
+        for start in (2, 3):
+            values = (("x", start), ("y", 0))
+            expected = naive.least(read_question(text).tree, False, world, dict(values))
+            self.check(text, world, (start, 0), len(expected))
+            self.assertEqual(paper(read_question(text), world, values=values), ("no", expected))
+
     def test_far_beyond_what_can_be_built(self):
         world = path(400, 399)
         values = (("x", 0), ("y", 399))

@@ -143,6 +143,14 @@ class RightPapers(unittest.TestCase):
         for letters in right_papers(question, "no", PAIR, values=(("x", 1),), upto=99):
             self.assertTrue(is_right(question, "no", PAIR, letters, (("x", 1),)))
 
+    def test_many_things_without_letters(self):
+        tree = ("rel", "edge", ("x", "v5"))
+        for at in range(38):
+            tree = ("every", "v%d" % at, tree)
+        world = World(3, [("edge", 2, [(1, 0), (1, 1), (1, 2)])])
+        question = samples.Question(("or", tree, tree))
+        self.assertEqual(list(right_papers(question, "yes", world, values=(("x", 1),), upto=5)), [(0,), (1,)])
+
     def test_errors_at_the_first_item(self):
         def first(question, side, world, values, upto):
             made = right_papers(question, side, world, values=values, upto=upto)

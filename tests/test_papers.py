@@ -26,6 +26,7 @@ class Paper(unittest.TestCase):
             found = paper(question, world, values=values)
             self.assertEqual(found, expected)
             self.assertIsInstance(found[1], tuple)
+            self.assertEqual(paper_length(question, world, values), len(found[1]))
             other = read_question("not (" + text + ")")
             self.assertEqual(paper(other, world, values=values), ({"yes": "no", "no": "yes"}[side], expected[1]))
 
@@ -88,6 +89,7 @@ class Paper(unittest.TestCase):
         found = paper(question, world, values=values)
         self.assertEqual(found, ("no", naive.least(question.tree, False, world, dict(values))))
         self.assertEqual(found[1][:10], (1, 1, 1, 0, 1, 2, 1, 0, 0, 0))
+        self.assertEqual(paper_length(question, world, values), len(found[1]))
 
     def test_as_many_letters_with_more_steps(self):
         # From 3 to 2: by one step with the letters 2 1 0 0, or, where two steps are allowed, by 0 with 0 0 2 0.
@@ -147,6 +149,7 @@ class Paper(unittest.TestCase):
             side = "yes" if yes else "no"
             expected = naive.least(question.tree, yes, world, dict(values))
             self.assertEqual(paper(question, world, values=values, limit=len(expected)), (side, expected), question.tree)
+            self.assertEqual(paper_length(question, world, values), len(expected))
             told[side] += len(expected) > 2
         self.assertGreater(min(told.values()), 30)
 
@@ -182,6 +185,9 @@ class Limit(unittest.TestCase):
         world = World(100)
         self.assertEqual(len(paper(question, world, values=values)[1]), 100000)
         check_error(self, TooLong(100000), paper, question, world, values=values, limit=99999)
+        longer = Question(("some", "w", question.tree))
+        check_error(self, TooLong(100001), paper, longer, world, values=values)
+        self.assertEqual(len(paper(longer, world, values=values, limit=100001)[1]), 100001)
         check_error(self, TooLong(110000), paper, question, world, values=(("x", 0), ("y", 11)))
 
     def test_errors(self):

@@ -7,6 +7,7 @@ from onceread.errors import NotRight
 from onceread.grammar import is_right
 from onceread.meaning import holds
 from onceread.papers import paper
+from onceread.questions import Question
 from onceread.resting import rests_on
 from onceread.running import agrees
 from onceread.sentences import read_question
@@ -65,6 +66,15 @@ class RestsOn(unittest.TestCase):
         question = read_question("(edge(y, x) or mark(x)) or (edge(y, x) or edge(x, x))")
         self.assertEqual(rests_on(question, "no", CHAIN, (), (("x", 0), ("y", 2))), (
             ("edge", (0, 0), False), ("edge", (2, 0), False), ("mark", (0,), False)))
+
+    def test_many_things_without_letters(self):
+        tree = ("rel", "edge", ("x", "v5"))
+        for at in range(39):
+            tree = ("every", "v%d" % at, tree)
+        world = World(3, [("edge", 2, [(1, 0), (1, 1), (1, 2)])])
+        self.assertEqual(rests_on(Question(tree), "yes", world, (), (("x", 1),)),
+                         tuple(("edge", (1, thing), True) for thing in range(3)))
+        self.assertEqual(paper(Question(tree), world, values=(("x", 1),)), ("yes", ()))
 
     def test_other_papers_rest_on_other_facts(self):
         ring = World(3, [("edge", 2, [(0, 1), (1, 2), (0, 2)])])

@@ -15,7 +15,7 @@ import samples
 from samples import check_error
 
 TAKE, REFUSE = ("take",), ("refuse",)
-CHAIN = samples.CHAIN
+CHAIN, PAIR = samples.CHAIN, samples.PAIR
 # Takes a way along the edges from one given thing to the other one.
 WAY = Judge(3, [("same", 0, 1, 5), ("read", 2), ("fact", "edge", (0, 2), 4), REFUSE, ("go", 6), TAKE, ("copy", 0, 2),
                 ("go", 0)], 2)
@@ -88,6 +88,10 @@ class LeastLetters(unittest.TestCase):
         judge = Judge(3, [("claim", 2), TAKE, ("read", 0), ("read", 1), ("read", 2), ("go", 0)])
         self.assertRaises(TooMany, least_letters, judge, World(30))
         self.assertEqual(least_letters(judge, World(30), limit=200000), (0,))
+        # Just so many, and one more.
+        many = [("go", line + 1) for line in range(19998)]
+        self.assertEqual(least_letters(Judge(1, many[:-1] + [("read", 0), TAKE]), PAIR), (0,))
+        check_error(self, TooMany(20000), least_letters, Judge(1, many + [("read", 0), TAKE]), PAIR)
         self.assertRaises(TypeError, least_letters, judge, World(2), (), 100)
 
     def test_errors(self):
