@@ -6,10 +6,11 @@ on are free.
 """
 
 from onceread.bills import bill
-from onceread.coding import Code
+from onceread.coding import Code, rows_of_registers
 from onceread.errors import TooLarge
 from onceread.judges import MOST_REGISTERS, Judge
 from onceread.nodes import bound_to
+from onceread.roundlines import RoundLines
 from onceread.trees import ATOMS
 
 
@@ -138,11 +139,6 @@ def write_count(code, part, digits, inner, top):
     code.go_to_next_row((top,), again)
 
 
-def rows_of_registers(top, width, number):
-    """So many rows of so many registers each, from the register top on."""
-    return [tuple(range(top + width * at, top + width * (at + 1))) for at in range(number)]
-
-
 def write_step(code, tree, yes, homes, here, after, top):
     """Write lines that read a side of the step of a walk, from a tuple to another one."""
     inner = bound_to(tree[1] + tree[2], here + after, homes)
@@ -165,112 +161,44 @@ def write_way(code, tree, homes, top):
 
 
 def write_no_way(code, tree, homes, top):
-    """Write lines for the no of a walk.
-
-    The goal is never claimed, so that all counts stay below the number of tuples, and each of
-    them is held as a tuple, digit by digit.
-    """
+    """Write lines for the no of a walk."""
+    code.go_if_same(registers_of(tree[4], homes), registers_of(tree[5], homes), code.refuse)
     width = len(tree[1])
-    round_number, count, claimed, target = rows_of_registers(top, width, 4)
-    start, goal = registers_of(tree[4], homes), registers_of(tree[5], homes)
-    again, each, is_claimed, further, behind = [code.label() for _ in range(5)]
-    ways = Ways(code, tree, homes, target, round_number, top + 4 * width)
-    code.go_if_same(start, goal, code.refuse)
-    code.zero_all(round_number + count)
-    code.count_one(count)
-    code.stand(again)
-    code.zero_all(claimed + target)
-    code.stand(each)
-    code.write("claim", is_claimed)
-    ways.write_denial(count, further)
-    code.stand(is_claimed)
-    code.go_if_same(target, goal, code.refuse)
-    ways.write_way_to_target()
-    code.count_one(claimed)
-    code.stand(further)
-    code.go_to_next_row(target, each)
-    code.go_if_same(claimed, count, behind)
-    code.copy_all(count, claimed)
-    code.count_one(round_number)
-    code.write("go", again)
-    ways.write_ways()
-    code.stand(behind)
+    rounds = RoundLines(code, width, top)
+    rounds.write(WalkLines(code, tree, homes, rounds.top))
 
 
-class Ways:
-    """The lines of the no of a walk that read ways, and all that is done with a way to a tuple.
+class WalkLines:
+    """What the rounds of a walk have of their own."""
 
-    A way to the target and a way to a shown tuple are read by the same lines, so that the step
-    stands there once. A register tells which of them is read: 0 for a shown tuple.
-    """
+    def __init__(self, code, tree, homes, top):
+        self._code = code
+        self._tree = tree
+        self._homes = homes
+        self._after = rows_of_registers(top, len(tree[1]), 1)[0]
+        self._top = top + len(tree[1])
 
-    def __init__(self, code, tree, homes, target, most, top):
-        self.code = code
-        self.tree = tree
-        self.homes = homes
-        self.target = target
-        self.most = most
-        width = len(tree[1])
-        self.other, self.shown, self.here, self.after, self.done = rows_of_registers(top, width, 5)
-        self.flag = top + 5 * width
-        self.top = self.flag + 1
-        self.entry = code.label()
-        self.to_target = code.label()
-        self.to_other = code.label()
+    def write_start(self, here):
+        """Write lines that put the start into these registers."""
+        self._code.copy_all(here, registers_of(self._tree[4], self._homes))
 
-    def write_way_to_target(self):
-        """Write lines that read a way to the target with at most one step more than most."""
-        code = self.code
-        code.write("zero", self.flag)
-        code.write("step", self.flag, code.refuse)
-        code.write("go", self.entry)
-        code.stand(self.to_target)
+    def write_next(self, row, goal):
+        """Write lines that put the next tuple into these registers and go to the goal."""
+        self._code.go_to_next_row(row, goal)
 
-    def write_denial(self, count, behind):
-        """Write lines that read, for a target that is not claimed, the claims for all tuples."""
-        code = self.code
-        each, is_shown, further = code.label(), code.label(), code.label()
-        code.zero_all(self.shown + self.other)
-        code.stand(each)
-        code.write("claim", is_shown)
-        code.write("go", further)
-        code.stand(is_shown)
-        code.write("zero", self.flag)
-        code.write("go", self.entry)
-        code.stand(self.to_other)
-        code.go_if_same(self.other, self.target, code.refuse)
-        write_step(code, self.tree, False, self.homes, self.other, self.target, self.top)
-        code.count_one(self.shown)
-        code.stand(further)
-        code.go_to_next_row(self.other, each)
-        code.refuse_unless_same(self.shown, count)
-        code.write("go", behind)
+    def write_bar(self, target):
+        """Write lines that refuse if this is the goal."""
+        self._code.go_if_same(target, registers_of(self._tree[5], self._homes), self._code.refuse)
 
-    def write_ways(self):
-        """Write the lines that read a way, at first from the start."""
-        code = self.code
-        again, is_other, further, last = [code.label() for _ in range(4)]
-        code.stand(self.entry)
-        code.copy_all(self.here, registers_of(self.tree[4], self.homes))
-        code.zero_all(self.done)
-        code.stand(again)
-        code.write("first", self.flag, is_other)
-        code.go_if_same(self.here, self.target, self.to_target)
-        code.write("go", further)
-        code.stand(is_other)
-        code.go_if_same(self.here, self.other, self.to_other)
-        code.go_if_same(self.done, self.most, code.refuse)
-        code.stand(further)
-        code.read_all(self.after)
-        write_step(code, self.tree, True, self.homes, self.here, self.after, self.top)
-        code.copy_all(self.here, self.after)
-        code.go_if_same(self.done, self.most, last)
-        code.count_one(self.done)
-        code.write("go", again)
-        # Only a way to the target comes here: its one step more is made, and no other may follow.
-        code.stand(last)
-        code.go_if_same(self.here, self.target, self.to_target)
-        code.write("go", code.refuse)
+    def write_move(self, here):
+        """Write lines that read a step."""
+        self._code.read_all(self._after)
+        write_step(self._code, self._tree, True, self._homes, here, self._after, self._top)
+        self._code.copy_all(here, self._after)
+
+    def write_denial(self, place, target, here):
+        """Write lines that read that there is no step. The registers `here` need not be kept."""
+        write_step(self._code, self._tree, False, self._homes, place, target, self._top)
 
 
 def judge_of(question, side):

@@ -9,6 +9,11 @@ from onceread.judges import MOST_LINES
 JUMPS = ("claim", "step", "first", "same", "fact", "go")
 
 
+def rows_of_registers(top, width, number):
+    """So many rows of so many registers each, from the register top on."""
+    return [tuple(range(top + width * at, top + width * (at + 1))) for at in range(number)]
+
+
 class Code:
     """The instructions written so far, and the lines at which the labels stand."""
 
@@ -49,6 +54,12 @@ class Code:
         for at in row:
             self.write("zero", at)
 
+    def put_one(self, at):
+        """Put 1 into a register."""
+        self.write("zero", at)
+        # Each world has a thing 1, so that this never goes to its line.
+        self.write("step", at, self.refuse)
+
     def copy_all(self, row, source):
         """Put into each register what the one of the source holds."""
         for at, other in zip(row, source):
@@ -68,6 +79,17 @@ class Code:
             self.write("go", different)
             self.stand(further)
         self.write("same", one[-1], two[-1], goal)
+        self.stand(different)
+
+    def go_if_zero(self, row, goal):
+        """Go to the goal if all these registers hold 0."""
+        different = self.label()
+        for at in row[:-1]:
+            further = self.label()
+            self.write("first", at, further)
+            self.write("go", different)
+            self.stand(further)
+        self.write("first", row[-1], goal)
         self.stand(different)
 
     def go_if_before(self, one, two, goal):
@@ -99,7 +121,7 @@ class Code:
             self.stand(carry)
 
     def count_one(self, row):
-        """Add 1 to the number that these registers hold, digit by digit. There must be room for it."""
+        """Add 1 to the number that these registers hold, digit by digit. Behind the last one is 0."""
         further = self.label()
         self.go_to_next_row(row, further)
         self.stand(further)
