@@ -45,9 +45,9 @@ def checked_values(world, values):
     return things
 
 
-def check_valued(question, variables):
-    """Raise Unvalued for the first free variable that is not among these."""
-    for name in question.free:
+def check_valued(free, variables):
+    """Raise Unvalued for the first one of the free variables that is not among these."""
+    for name in free:
         if name not in variables:
             raise Unvalued(name)
 
@@ -56,7 +56,7 @@ def checked_things(question, world, values):
     """The dict of the things for a question that is asked with these values."""
     check_relations(question.uses, world)
     things = checked_values(world, values)
-    check_valued(question, list(things))
+    check_valued(question.free, list(things))
     return things
 
 
@@ -65,5 +65,5 @@ def checked_variables(question, world, variables):
     check_relations(question.uses, world)
     if not are_different_names(variables, MOST_ANSWERED):
         raise BadValues()
-    check_valued(question, variables)
+    check_valued(question.free, variables)
     return tuple(variables)

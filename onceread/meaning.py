@@ -26,6 +26,6 @@ def tally(question, world, variable, values=()):
     things = checked_values(world, values)
     if not is_name(variable):
         raise BadValues()
-    check_valued(question, list(things) + [variable])
+    check_valued(question.free, list(things) + [variable])
     truth = Truth(question, world)
     return truth.count(truth.root, things, variable)

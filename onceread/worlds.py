@@ -46,15 +46,11 @@ class World:
 
     def arity(self, name):
         """The arity of a relation."""
-        if name not in self._tables:
-            raise NoSuchRelation(name)
-        return self._tables[name][0]
+        return self._table(name)[0]
 
     def rows(self, name):
         """The rows of a relation, ascending."""
-        if name not in self._tables:
-            raise NoSuchRelation(name)
-        return self._tables[name][1]
+        return self._table(name)[1]
 
     def put(self, name, row):
         """The world in which this fact stands, too."""
@@ -79,6 +75,12 @@ class World:
             rows = [tuple([order[thing] for thing in row]) for row in self.rows(name)]
             relations.append((name, self.arity(name), rows))
         return World(self.size, relations)
+
+    def _table(self, name):
+        # A deed may bring a name that is no text, and perhaps no key.
+        if not isinstance(name, str) or name not in self._tables:
+            raise NoSuchRelation(name)
+        return self._tables[name]
 
     def _checked_row(self, name, row):
         if not is_row(row, self.arity(name), self.size):

@@ -1,4 +1,4 @@
-"""The names, arguments and places that the interface lists, as far as they are built."""
+"""The names, arguments and places that the interface lists."""
 
 import importlib
 import inspect
@@ -29,6 +29,18 @@ FUNCTIONS = {
     "resting": {"rests_on": "question side world letters values=()"},
     "counterpapers": {"is_counter_right": "judge world letters given=()",
                       "counter_paper": "judge world given=() * limit=20000 longest=100000"},
+    "countering": {"counter_bill": "judge", "counter": "judge"},
+    "settling": {"settled": "judge world given=() * limit=20000 longest=100000"},
+    "webs": {"web": "judge world given=() * limit=400", "goal_reached": ""},
+    "onewalk": {"one_walk": "judge variables"},
+    "linetables": {"line_table": "one two", "is_line_table": "one two table"},
+    "tidying": {"tidied": "judge"},
+    "desks": {"perform": "desk deeds"},
+    "library": {"named": "word relation='edge'", "words": "", "view": "name question variables"},
+    "plainly": {"plainly": "word world values=() relation='edge'"},
+    "worldnotes": {"write_world": "world", "read_world": "text"},
+    "judgenotes": {"write_judge": "judge", "read_judge": "text"},
+    "papernotes": {"write_paper": "word letters", "read_paper": "text"},
 }
 CLASSES = {
     "worlds": {"World": ("size relations=()", "arity:name rows:name put:name,row drop:name,row moved:order", "",
@@ -36,6 +48,9 @@ CLASSES = {
     "questions": {"Question": ("tree", "", "free uses bare ordered", "__and__ __or__ __invert__ __eq__")},
     "judges": {"Judge": ("registers lines given=0", "", "uses", "__eq__")},
     "readers": {"Reader": ("judge world given=()", "feed:letter", "state standing fed", "")},
+    "desks": {"Desk": ("world", "watch:name,question,values=() unwatch:name answer:name letters:name made:name "
+                       "put:name,row drop:name,row undo:", "world watches edits", ""),
+              "Trial": ("desk", "", "", "__enter__ __exit__")},
 }
 
 

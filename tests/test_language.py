@@ -55,13 +55,15 @@ def is_doc(node):
     return isinstance(node, ast.Expr) and isinstance(node.value, ast.Constant) and isinstance(node.value.value, str)
 
 
-def is_plain(node):
+def is_plain(node, functions=()):
+    if isinstance(node, ast.Name):
+        return node.id in functions
     if isinstance(node, ast.Constant):
         return isinstance(node.value, (int, str, bytes, bool)) or node.value is None
     if isinstance(node, (ast.Tuple, ast.List)):
-        return all(is_plain(part) for part in node.elts)
+        return all(is_plain(part, functions) for part in node.elts)
     if isinstance(node, ast.Dict):
-        return all(is_plain(part) for part in node.keys + node.values)
+        return all(is_plain(part, functions) for part in node.keys + node.values)
     return False
 
 
@@ -124,7 +126,7 @@ class Language(unittest.TestCase):
                     if isinstance(node, ast.Assign):
                         self.assertEqual(len(node.targets), 1)
                         self.assertIsInstance(node.targets[0], ast.Name)
-                        self.assertTrue(is_plain(node.value))
+                        self.assertTrue(is_plain(node.value, names))
                         names.append(node.targets[0].id)
                     elif isinstance(node, ast.ImportFrom):
                         names += [part.name for part in node.names]
@@ -390,10 +392,26 @@ class Language(unittest.TestCase):
             if isinstance(node.func, ast.Name) and node.func.id in ("any", "all"):
                 self.assertIsInstance(node.args[0], ast.ListComp)
 
+    def test_blocks(self):
+        """An `__exit__` only puts back what its object keeps."""
+        found = 0
+        for path, node in self.each(ast.FunctionDef):
+            if node.name == "__exit__":
+                found += 1
+                self.assertEqual([part.arg for part in node.args.args], ["self", "kind", "value", "trace"])
+                for part in node.body:
+                    self.assertRegex(ast.unparse(part), r"^([a-z]+ = self\.[a-z]+|[a-z]+\.[a-z]+ = self\.[a-z]+)$")
+        self.assertEqual(found, 1)
+        for path, node in self.each(ast.With):
+            self.assertTrue(all(isinstance(item.context_expr, ast.Call) and item.context_expr.func.id in OWN_CLASSES
+                                for item in node.items))
+
     def test_signs_change_nothing(self):
         for path, node in self.each(ast.FunctionDef):
             decorated = [decorator.id for decorator in node.decorator_list]
-            if node.name.startswith("__") and node.name != "__init__" or "property" in decorated:
+            if node.name in ("__init__", "__enter__", "__exit__"):
+                continue
+            if node.name.startswith("__") or "property" in decorated:
                 for part in ast.walk(node):
                     if isinstance(part, (ast.Attribute, ast.Subscript)):
                         self.assertIsInstance(part.ctx, ast.Load)
