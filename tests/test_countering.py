@@ -7,7 +7,7 @@ from onceread.countering import counter, counter_bill
 from onceread.counterpapers import counter_paper
 from onceread.errors import TooLarge
 from onceread.judges import Judge
-from onceread.reaching import can_take
+from onceread.reaching import can_take, reached
 from onceread.running import verdict
 from onceread.seeking import least_letters, taken_papers
 from onceread.worlds import World
@@ -33,6 +33,34 @@ def small_judge(chance):
 
 def some_given(chance, judge, world):
     return tuple(chance.randrange(world.size) for _ in range(judge.given))
+
+
+def lying_paper(judge, world, given, hidden):
+    """A paper that would be right if no move led to one of the standings."""
+    def courses(most):
+        found = {start: ()}
+        for _ in range(most):
+            for here, letters in list(found.items()):
+                for letter, there in naive.moves(judge, world, here):
+                    if there != hidden and there not in found:
+                        found[there] = letters + (() if letter is None else (letter,))
+        return found
+
+    start = (0, tuple(given) + (0,) * (judge.registers - len(given)))
+    letters, shown, number = (), {start: ()}, 0
+    while True:
+        number += 1
+        claimed = courses(number)
+        for there in naive.standings(judge, world):
+            if there in claimed:
+                letters += (1,) + claimed[there]
+            else:
+                letters += (0,)
+                for here in naive.standings(judge, world):
+                    letters += (1,) + shown[here] if here in shown else (0,)
+        if len(claimed) == len(shown):
+            return letters
+        shown = claimed
 
 
 class Bill(unittest.TestCase):
@@ -140,6 +168,37 @@ class Taken(unittest.TestCase):
                     for letter in range(3):
                         other = paper[:at] + (letter,) + paper[at + 1:]
                         self.check(judge, found, world, (thing,), other)
+
+    def check_lies(self, judge, world, given):
+        """It is told of each standing that is reached, but for the beginning, that it is not."""
+        found = counter(judge)
+        standings = reached(judge, world, given)
+        for hidden in standings[1:]:
+            letters = lying_paper(judge, world, given, hidden)
+            self.assertFalse(naive.is_counter_right(judge, world, letters, given))
+            self.assertEqual(verdict(found, world, letters, given), "refused", (judge.lines, given, hidden))
+        return len(standings) - 1
+
+    def test_each_move_is_seen(self):
+        world = World(2, [("edge", 2, [(0, 1), (1, 1)]), ("mark", 1, [(1,)]), ("tri", 3, [(0, 1, 1)])])
+        for line in (("read", 0), ("read", 1), ("claim", 3), ("claim", 1), ("claim", 2), ("zero", 0), ("copy", 0, 1),
+                     ("copy", 1, 0), ("step", 0, 3), ("step", 1, 3), ("first", 0, 3), ("first", 1, 3), ("same", 0, 1, 3),
+                     ("fact", "edge", (0, 1), 3), ("fact", "edge", (1, 0), 3), ("fact", "mark", (1,), 3),
+                     ("fact", "tri", (0, 1, 1), 3), ("go", 3), ("go", 1)):
+            # The line stands behind one that is never come to, and what is hidden behind both or between.
+            for lines in ([line, REFUSE, REFUSE, REFUSE], [("go", 2), REFUSE, line, REFUSE],
+                          [("go", 2), REFUSE, line, TAKE], [("go", 3), REFUSE, TAKE, line, REFUSE]):
+                for given in ((0, 0), (0, 1), (1, 0), (1, 1)):
+                    self.check_lies(Judge(2, lines, 2), world, given)
+
+    def test_each_move_is_seen_at_random(self):
+        chance = random.Random(54)
+        lies = 0
+        for _ in range(150):
+            world = samples.some_world(chance, chance.choice((2, 2, 3)))
+            judge = samples.some_judge(chance, chance.choice((0, 1, 1)), chance.randrange(2, 7))
+            lies += self.check_lies(judge, world, some_given(chance, judge, world))
+        self.assertGreater(lies, 300)
 
     def test_papers_found_in_the_counter_judge(self):
         for lines in ([REFUSE], [TAKE], [("go", 0)], [("claim", 0), REFUSE], [("claim", 1), ("go", 0)],

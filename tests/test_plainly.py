@@ -63,6 +63,15 @@ class Told(unittest.TestCase):
                 values = [(name, chance.randrange(12)) for name in FREE[word]]
                 self.assertIs(plainly(word, world, values), holds(named(word), world, values), (word, world.facts))
 
+    def test_rings_of_each_length(self):
+        for size in range(2, 12):
+            ring = World(size, [("edge", 2, [(thing, (thing + 1) % size) for thing in range(size)])])
+            self.assertIs(plainly("twosided", ring), size % 2 == 0)
+            self.assertIs(holds(named("twosided"), ring), size % 2 == 0)
+            self.assertIs(plainly("bridge", ring, (("x", 0), ("y", 1))), size == 2)
+            self.assertIs(plainly("linked", ring), True)
+            self.assertIs(plainly("onring", ring, (("x", size - 1),)), True)
+
     def test_largest_world(self):
         ring = World(400, [("edge", 2, [(thing, (thing + 1) % 400) for thing in range(400)])])
         line = ring.drop("edge", (399, 0))

@@ -32,9 +32,26 @@ def classes_of(judge):
     return found
 
 
-def rewritten(judge):
+def classes_by_rounds(judge):
+    """The same, for longer judges: what differs is found by one instruction more in each round."""
+    stood = [stood_for(judge, line) for line in range(len(judge.lines))]
+    marks = [0] * len(stood)
+    while True:
+        told = []
+        for line in stood:
+            row = () if line is None else judge.lines[line]
+            behind = [line + 1] if row and row[0] not in ("take", "refuse") else []
+            behind += [row[-1]] if row and row[0] in GOALS else []
+            told.append((row[:-1] if row and row[0] in GOALS else row, tuple(marks[other] for other in behind)))
+        found = [told.index(one) for one in told]
+        if found == marks:
+            return found
+        marks = found
+
+
+def rewritten(judge, classes):
     """Point 53, as it tells how the lines are written."""
-    classes, places, new = classes_of(judge), {}, []
+    places, new = {}, []
     chain = classes[0]
     while chain is not None:
         while chain not in places:
@@ -70,7 +87,7 @@ class Tidied(unittest.TestCase):
             self.assertEqual(found.lines, tuple(expected))
             self.assertEqual((found.registers, found.given), (registers, 1))
             self.assertEqual(tidied(judge=found), found)
-            self.assertEqual(rewritten(judge), found)
+            self.assertEqual(rewritten(judge, classes_of(judge)), found)
 
     def test_small(self):
         self.check([TAKE], [TAKE])
@@ -127,11 +144,12 @@ class Tidied(unittest.TestCase):
         for _ in range(400):
             judge = some(chance)
             found = tidied(judge)
-            self.assertEqual(found, rewritten(judge))
+            self.assertEqual(found, rewritten(judge, classes_of(judge)))
             self.assertEqual(tidied(found), found)
             table = line_table(judge, found)
             self.assertIsNotNone(table)
             self.assertTrue(is_line_table(judge, found, table))
+            self.assertEqual(classes_by_rounds(judge), classes_of(judge))
             # Each class once, and so no two lines of it that are no go stand in one class.
             kept = [line for line in range(len(found.lines)) if found.lines[line][0] != "go"]
             told = classes_of(found)
@@ -139,6 +157,29 @@ class Tidied(unittest.TestCase):
             shorter += len(found.lines) < len(judge.lines)
             longer += len(found.lines) > len(judge.lines)
         self.assertGreater(shorter, 200)
+
+    def test_longer_judges(self):
+        chance = random.Random(56)
+        for _ in range(400):
+            lines = chance.randrange(10, 70)
+            ends = [TAKE] * chance.randrange(1, 4)
+            made = [chance.choice([("claim", chance.randrange(lines)), ("claim", chance.randrange(lines)),
+                                   ("read", 0), ("go", chance.randrange(lines))] + ends) for _ in range(lines - 1)]
+            judge = Judge(1, made + [TAKE])
+            self.assertEqual(tidied(judge), rewritten(judge, classes_by_rounds(judge)))
+
+    def test_chains_that_are_told_apart_late(self):
+        # Rows of reads of several lengths, some of which end otherwise: each line is of another class, or all are.
+        for lengths, ends in (((30, 30, 30), (TAKE, TAKE, REFUSE)), ((5, 40, 11), (TAKE, REFUSE, TAKE)),
+                              ((20, 20, 20), (TAKE, TAKE, TAKE)), ((1, 2, 3), (REFUSE, TAKE, REFUSE))):
+            lines, starts = [("claim", 0), ("claim", 0), REFUSE], []
+            for length, end in zip(lengths, ends):
+                starts.append(len(lines))
+                lines += [("read", 0)] * length + [end]
+            lines[0], lines[1] = ("claim", starts[0]), ("claim", starts[1])
+            lines[2] = ("go", starts[2])
+            judge = Judge(1, lines)
+            self.assertEqual(tidied(judge), rewritten(judge, classes_by_rounds(judge)))
 
     def test_equal_if_line_alike(self):
         chance = random.Random(54)
