@@ -99,7 +99,8 @@ def is_bridge(world, relation, things):
 def leads_without_return(world, relation, things):
     """Does x reach y by steps of which none can be undone by others?"""
     steps = along(world, relation)
-    rows = [row for row in world.rows(relation) if not does_reach(steps, row[1], row[0])]
+    reached = [reached_from(steps, [thing]) for thing in range(world.size)]
+    rows = [row for row in world.rows(relation) if row[0] not in reached[row[1]]]
     return does_reach(steps_of(rows, world.size), things["x"], things["y"])
 
 
